@@ -1,0 +1,1 @@
+"""Pilepass: webs of steps that are run in one pass with one pile."""

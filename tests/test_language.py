@@ -1,0 +1,111 @@
+"""Those rules of LANGUAGE.md that can be told from the files alone, in short."""
+
+import ast
+import builtins
+import unittest
+from pathlib import Path
+
+PACKAGE = Path(__file__).resolve().parent.parent / "pilepass"
+FILES = {path.name: path.read_text(encoding="utf-8") for path in sorted(PACKAGE.rglob("*.py"))}
+TREES = {name: ast.parse(text) for name, text in FILES.items()}
+
+LIBRARY = {
+    "heapq": ("heappush", "heappop", "heapify", "heapreplace", "heappushpop"),
+    "math": ("gcd", "lcm", "isqrt", "comb", "perm", "factorial"),
+    "itertools": ("product", "combinations", "permutations", "chain", "accumulate", "pairwise", "islice",
+                  "zip_longest"),
+    "collections": ("defaultdict", "deque"),
+}
+BUILTINS = set("""
+    len range enumerate zip min max sum abs sorted reversed int str bool list tuple dict set isinstance ord repr
+    any all divmod map iter next ValueError TypeError KeyError IndexError LookupError ZeroDivisionError
+    NotImplemented StopIteration property staticmethod classmethod super
+""".split())
+METHODS = set("""
+    append clear copy count endswith extend find get index insert isalnum isalpha isdigit islower isspace isupper
+    items join keys ljust lower lstrip partition pop remove replace reverse rfind rjust rpartition rsplit rstrip
+    setdefault split splitlines startswith strip update upper values zfill bit_length add discard isascii
+    removeprefix removesuffix __init__
+""".split())
+STATEMENTS_OF_A_MODULE = (ast.Expr, ast.ImportFrom, ast.FunctionDef, ast.ClassDef, ast.Assign)
+NOT_ALLOWED = (
+    ast.AsyncFunctionDef, ast.AsyncFor, ast.AsyncWith, ast.Await, ast.Import, ast.Global, ast.Div, ast.MatMult,
+)
+
+
+def nodes(*kinds):
+    """The nodes of these kinds in all files, each with the place to tell of it."""
+    for name, tree in TREES.items():
+        for node in ast.walk(tree):
+            if isinstance(node, kinds):
+                yield f"{name}:{getattr(node, 'lineno', 0)}", node
+
+
+class LanguageTest(unittest.TestCase):
+
+    def test_folder_holds_plain_files_only(self):
+        found = [path.name for path in PACKAGE.iterdir() if path.name != "__pycache__"]
+        self.assertEqual(sorted(found), sorted(FILES))
+        self.assertIn("__init__.py", found)
+
+    def test_sizes_and_characters(self):
+        for name, text in FILES.items():
+            lines = text.split("\n")
+            self.assertLessEqual(len(lines), 399, name)
+            for at, line in enumerate(lines, 1):
+                self.assertLessEqual(len(line), 120, f"{name}:{at}")
+                self.assertTrue(all(" " <= sign <= "~" for sign in line), f"{name}:{at}")
+        for place, node in nodes(ast.FunctionDef):
+            self.assertLessEqual(node.end_lineno - node.lineno + 1, 40, place)
+
+    def test_module_level(self):
+        for name, tree in TREES.items():
+            for node in tree.body:
+                self.assertIsInstance(node, STATEMENTS_OF_A_MODULE, f"{name}:{node.lineno}")
+
+    def test_imports(self):
+        own = {f"pilepass.{name[:-3]}" for name in FILES}
+        for place, node in nodes(ast.ImportFrom):
+            names = [item.name for item in node.names]
+            if node.module in own:
+                defined = [item.name for item in TREES[f"{node.module[9:]}.py"].body if hasattr(item, "name")]
+                defined += [item.targets[0].id for item in TREES[f"{node.module[9:]}.py"].body
+                            if isinstance(item, ast.Assign)]
+                self.assertLessEqual(set(names), set(defined), place)
+            else:
+                self.assertIn(node.module, LIBRARY, place)
+                self.assertLessEqual(set(names), set(LIBRARY[node.module]), place)
+            self.assertTrue(all(item.asname is None for item in node.names), place)
+
+    def test_nothing_that_is_not_allowed(self):
+        for place, node in nodes(*NOT_ALLOWED):
+            self.fail(f"{place}: {node}")
+        for place, node in nodes(ast.Constant):
+            self.assertNotIsInstance(node.value, (float, complex), place)
+            if isinstance(node.value, str) and node.value != ast.get_docstring(TREES[place.split(":")[0]], False):
+                self.assertNotIn("%", node.value, place)
+
+    def test_builtins(self):
+        for place, node in nodes(ast.Name):
+            if isinstance(node.ctx, ast.Load):
+                self.assertFalse(hasattr(builtins, node.id) and node.id not in BUILTINS, f"{place}: {node.id}")
+            else:
+                self.assertFalse(hasattr(builtins, node.id), f"{place}: {node.id}")
+        for place, node in nodes(ast.arg):
+            self.assertFalse(hasattr(builtins, node.arg), f"{place}: {node.arg}")
+
+    def test_methods(self):
+        own = {node.name for _, node in nodes(ast.FunctionDef)}
+        for place, node in nodes(ast.Call):
+            if isinstance(node.func, ast.Attribute):
+                self.assertIn(node.func.attr, METHODS | own, place)
+
+    def test_is(self):
+        for place, node in nodes(ast.Compare):
+            for sign, side in zip(node.ops, node.comparators):
+                if isinstance(sign, (ast.Is, ast.IsNot)):
+                    self.assertIsInstance(side, ast.Constant, place)
+
+
+if __name__ == "__main__":
+    unittest.main()
