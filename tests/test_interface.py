@@ -11,6 +11,15 @@ FUNCTIONS = {
         "web_error": ["value"], "ties": ["web"], "results": ["web"], "leads": ["web", "one", "other"],
         "meaning": ["web", "worths"], "beside": ["web", "other"], "renumbered": ["web", "value"],
     },
+    "blocks": {"parts": ["web"], "blocks": ["web"], "shared_steps": ["web"], "row_of": ["web", "block"]},
+    "orders": {
+        "order_error": ["web", "value"], "order_of": ["web"], "orders": ["web"], "can_begin": ["web", "value"],
+        "order_count": ["web"],
+    },
+    "bars": {"bar": ["web"], "bar_holds": ["web", "value"]},
+    "heights": {
+        "heights": ["web", "order"], "least_height": ["web"], "greatest_height": ["web"], "lowest_order": ["web"],
+    },
 }
 CLASSES = {
     "errors": {

@@ -27,6 +27,10 @@ METHODS = set("""
     setdefault split splitlines startswith strip update upper values zfill bit_length add discard isascii
     removeprefix removesuffix __init__
 """.split())
+NAMES_NOT_USED = set("""
+    mro elements open input law version_info with_traceback add_note register attrgetter breakpoint builtins compile
+    delattr dir eval exec exit gc globals help importlib locals methodcaller os vars type typing enum sys
+""".split())
 STATEMENTS_OF_A_MODULE = (ast.Expr, ast.ImportFrom, ast.FunctionDef, ast.ClassDef, ast.Assign)
 NOT_ALLOWED = (
     ast.AsyncFunctionDef, ast.AsyncFor, ast.AsyncWith, ast.Await, ast.Import, ast.Global, ast.Div, ast.MatMult,
@@ -99,6 +103,25 @@ class LanguageTest(unittest.TestCase):
         for place, node in nodes(ast.Call):
             if isinstance(node.func, ast.Attribute):
                 self.assertIn(node.func.attr, METHODS | own, place)
+
+    def test_names_that_are_not_used(self):
+        for place, node in nodes(ast.Name, ast.arg, ast.Attribute, ast.FunctionDef, ast.ClassDef):
+            names = [getattr(node, word, None) for word in ("id", "arg", "attr", "name")]
+            self.assertFalse(NAMES_NOT_USED & set(names), place)
+
+    def test_generators_are_iterated_at_once(self):
+        generators = {
+            function.name for _, function in nodes(ast.FunctionDef)
+            if any(isinstance(node, (ast.Yield, ast.YieldFrom)) for node in ast.walk(function))
+        }
+        self.assertIn("orders", generators)
+        iterated = [node.iter for _, node in nodes(ast.For, ast.comprehension)]
+        iterated += [node.value for _, node in nodes(ast.YieldFrom)]
+        for place, node in nodes(ast.Call):
+            if isinstance(node.func, ast.Name) and node.func.id in generators:
+                self.assertIn(node, iterated, place)
+        for place, node in nodes(ast.GeneratorExp):
+            self.fail(f"{place}: a list says the same")
 
     def test_is(self):
         for place, node in nodes(ast.Compare):
