@@ -1,67 +1,89 @@
 """Parts and blocks: which steps of a web hang together, and how closely."""
 
-from pilepass.webs import givers_first, leads
+from pilepass.webs import givers_first
 
 
 def parts(web):
     """The ascending tuple of all parts."""
-    return tuple(pieces(web, tuple(range(len(web)))))
-
-
-def pieces(web, steps):
-    """The greatest sets of these ascending steps that hang together, as ascending tuples, ascending."""
+    near = near_steps(web)
     found = []
-    rest = steps
-    while rest:
-        piece = reached(web, rest[0], rest)
-        found.append(piece)
-        rest = tuple([step for step in rest if step not in piece])
-    return found
+    seen = []
+    for step in range(len(web)):
+        if step not in seen:
+            part = reached(near, step, [])
+            found.append(tuple(sorted(part)))
+            seen.extend(part)
+    return tuple(found)
 
 
-def reached(web, start, steps):
-    """The ascending tuple of those of these steps that are joined to one of them, through these steps alone."""
-    found = []
+def near_steps(web):
+    """For each step the list of the steps that it is tied to, whichever way the ties go."""
+    near = [[] for _ in web]
+    for taker, (_, inputs) in enumerate(web):
+        for giver in inputs:
+            if giver not in near[taker]:
+                near[taker].append(giver)
+                near[giver].append(taker)
+    return near
+
+
+def reached(near, start, barred):
+    """The list of the steps that a row of ties, whichever way they go, joins to one, through no barred step."""
+    found = [start]
     waiting = [start]
     while waiting:
         step = waiting.pop()
-        if step not in found:
-            found.append(step)
-            waiting.extend([other for other in steps if are_tied(web, step, other)])
-    return tuple(sorted(found))
-
-
-def are_tied(web, one, other):
-    """Whether there is a tie between two steps, whichever way it goes."""
-    return one in web[other][1] or other in web[one][1]
+        fresh = [other for other in near[step] if other not in found and other not in barred]
+        found.extend(fresh)
+        waiting.extend(fresh)
+    return found
 
 
 def blocks(web):
     """The ascending tuple of all blocks."""
-    found = []
-    for part in parts(web):
-        found.extend(blocks_among(web, part))
-    return tuple(sorted(found))
+    search = Search(web)
+    for step in range(len(web)):
+        if step not in search.ranks:
+            search.visit(step, None)
+    return tuple(sorted(search.found))
 
 
-def blocks_among(web, steps):
-    """The list of the blocks among these ascending steps, which hang together."""
-    if len(steps) < 2:
-        return []
-    for step in steps:
-        found = pieces(web, tuple([other for other in steps if other != step]))
-        # Where the others fall apart, no block goes from one piece to another, but each may have this step.
-        if len(found) > 1:
-            return blocks_of_pieces(web, found, step)
-    return [steps]
+class Search:
+    """A walk along the ties, whichever way they go, that finds each block when it leaves it for good.
 
+    ranks has the number 0 for the step that was come to first, 1 for the next one, and so on. lows has for each of
+    these steps the least rank of itself and of the steps that it, or one that was come to through it, is tied to
+    (but for the tie by which one came). path has the steps whose block with the step ahead is not yet found.
+    """
 
-def blocks_of_pieces(web, found, step):
-    """The list of the blocks of the pieces that were found, each together with this step."""
-    told = []
-    for piece in found:
-        told.extend(blocks_among(web, tuple(sorted((*piece, step)))))
-    return told
+    def __init__(self, web):
+        self.near = near_steps(web)
+        self.ranks = {}
+        self.lows = {}
+        self.path = []
+        self.found = []
+
+    def visit(self, step, before):
+        """Come to a step from the one before, and go on from it as long as there is a step to come to."""
+        rank = len(self.ranks)
+        self.ranks[step] = self.lows[step] = rank
+        self.path.append(step)
+        for other in self.near[step]:
+            if other not in self.ranks:
+                self.visit(other, step)
+                # No row of ties leads from there past this step: with it, what is left of the path is a block.
+                if self.lows[other] >= rank:
+                    self.found.append(tuple(sorted((step, *self.path_from(other)))))
+                self.lows[step] = min(self.lows[step], self.lows[other])
+            elif other != before:
+                self.lows[step] = min(self.lows[step], self.ranks[other])
+
+    def path_from(self, step):
+        """Take this step and those behind it off the path; the list of them."""
+        at = self.path.index(step)
+        found = self.path[at:]
+        self.path = self.path[:at]
+        return found
 
 
 def shared_steps(web):
@@ -72,8 +94,14 @@ def shared_steps(web):
 
 def row_of(web, block):
     """The steps of a block so that each one leads to all that stand behind it; None if they do not stand so."""
-    row = tuple([step for step in givers_first(web) if step in block])
+    return row_among(web, givers_first(web), block)
+
+
+def row_among(web, steps, block):
+    """The same, from a row of all steps in which each stands behind its inputs."""
+    row = tuple([step for step in steps if step in block])
+    # A row of ties between two steps of a block does not leave it, and nothing of it stands between these two.
     for one, other in zip(row, row[1:]):
-        if not leads(web, one, other):
+        if one not in web[other][1]:
             return None
     return row

@@ -1,20 +1,32 @@
 """Right orders: the first one, all of them, how they begin, and how many they are."""
 
-from pilepass.states import States
+from math import perm
+
+from pilepass.masks import taker_masks
+from pilepass.pile_states import PileStates
+from pilepass.trees import has_crossing, trees
+from pilepass.walks import all_rows
 from pilepass.webs import has_each_once, is_step, ties
 
 
 def order_error(web, value):
     """None for a right order, otherwise the first fault as a tuple of a word and the ties that show it."""
+    fault = row_error(web, value)
+    if fault is not None:
+        return fault
+    if not has_crossing(value, taker_masks(web)):
+        return None
+    return ("cross", *first_crossing(value, ties(web)))
+
+
+def row_error(web, value):
+    """None if a value is a tuple of all steps in which each stands behind its inputs, otherwise the first fault."""
     if not has_each_once(value, len(web)):
         return ("order",)
     at = places(value)
     for tie in ties(web):
         if at[tie[0]] > at[tie[1]]:
             return ("late", tie)
-    found = crossings(value, ties(web))
-    if found:
-        return ("cross", *found[0])
     return None
 
 
@@ -23,10 +35,14 @@ def places(row):
     return {step: place for place, step in enumerate(row)}
 
 
-def crossings(row, among):
-    """The ascending pairs of these ascending ties that cross in a row; the first tie of a pair has the first giver."""
+def first_crossing(row, among):
+    """The least pair of these ascending ties that cross in a row; the first one of them has the first giver."""
     at = places(row)
-    return [(tie, another) for tie in among for another in among if crosses(at, tie, another)]
+    for tie in among:
+        for another in among:
+            if crosses(at, tie, another):
+                return (tie, another)
+    return None
 
 
 def crosses(at, tie, another):
@@ -36,48 +52,46 @@ def crosses(at, tie, another):
 
 def order_of(web):
     """The first right order, ascending; None if there is none."""
-    for order in orders(web):
-        return order
-    return None
+    states = PileStates(web)
+    if not states.has_order():
+        return None
+    order = ()
+    state = states.first()
+    while state[0]:
+        step = states.next_steps(state)[0]
+        order = order + (step,)
+        state = states.after(state, step)
+    return order
 
 
 def orders(web):
     """Yield all right orders, ascending."""
-    states = States(web)
-    waiting = [((), states.first())]
-    while waiting:
-        order, state = waiting.pop()
-        if len(order) == len(web):
-            yield order
-        # What is put there last is gone on with first: that has to be the least step.
-        for step, behind in reversed(list(states.ways(state))):
-            waiting.append((order + (step,), behind))
+    states = PileStates(web)
+    many = len(web)
+    yield from all_rows(states, many)
 
 
 def can_begin(web, value):
     """Whether a value is a tuple of steps with which a right order begins."""
-    if not isinstance(value, tuple):
+    if not isinstance(value, tuple) or len(value) > len(web):
         return False
-    states = States(web)
+    states = PileStates(web)
     state = states.first()
     for step in value:
         # Only a step number is looked up: True would be found in the place of 1.
-        state = states.next_state(state, step) if is_step(step, len(web)) else None
-        if state is None:
+        if not is_step(step, len(web)) or step not in states.next_steps(state):
             return False
-    return states.can_finish(state)
+        state = states.after(state, step)
+    return states.has_order()
 
 
 def order_count(web):
     """How many right orders there are."""
-    states = States(web)
-    return many_from(states, states.first(), {})
-
-
-def many_from(states, state, known):
-    """In how many ways a right order goes on from this state; known keeps what was told."""
-    if not state[0]:
-        return 1
-    if state not in known:
-        known[state] = sum([many_from(states, behind, known) for _, behind in states.ways(state)])
-    return known[state]
+    found = trees(web)
+    if not found:
+        return 0
+    # So many ways there are to let orders of the parts go into one another.
+    many = perm(len(web), len(found) - 1)
+    for roots in found:
+        many = many * sum([root.order_count() for root in roots])
+    return many

@@ -49,6 +49,13 @@ def is_number(value):
     return isinstance(value, int) and not isinstance(value, bool)
 
 
+def is_exact(value):
+    """Whether True and False, which are equal to 1 and 0, are nowhere in a value of tuples, integers and strings."""
+    if isinstance(value, tuple):
+        return all([is_exact(item) for item in value])
+    return not isinstance(value, bool)
+
+
 def is_step(value, many):
     """Whether a value is a step number of a web of so many steps."""
     return is_number(value) and 0 <= value < many
@@ -56,7 +63,7 @@ def is_step(value, many):
 
 def has_each_once(value, many):
     """Whether a value is a tuple that has each step number of a web of so many steps just once."""
-    if not isinstance(value, tuple):
+    if not isinstance(value, tuple) or len(value) != many:
         return False
     # Only step numbers are sorted: values of unlike kinds could not be compared.
     if not all([is_step(item, many) for item in value]):
@@ -66,18 +73,27 @@ def has_each_once(value, many):
 
 def givers_first(web):
     """The steps in a row in which each stands behind its inputs, without those on or behind a ring."""
-    row = []
-    ready = ready_steps(web, row)
-    while ready:
-        row.extend(ready)
-        ready = ready_steps(web, row)
+    missing = [len(inputs) for _, inputs in web]
+    takers = takers_of(web)
+    row = [step for step in range(len(web)) if not missing[step]]
+    at = 0
+    while at < len(row):
+        giver = row[at]
+        for taker in takers[giver]:
+            missing[taker] -= 1
+            if not missing[taker]:
+                row.append(taker)
+        at += 1
     return row
 
 
-def ready_steps(web, row):
-    """The steps that are not in the row though all their inputs are."""
-    waiting = [step for step in range(len(web)) if step not in row]
-    return [step for step in waiting if all([giver in row for giver in web[step][1]])]
+def takers_of(web):
+    """For each step the ascending list of the steps that take from it, each as often as it does."""
+    takers = [[] for _ in web]
+    for taker, (_, inputs) in enumerate(web):
+        for giver in inputs:
+            takers[giver].append(taker)
+    return takers
 
 
 def ties(web):
@@ -90,8 +106,8 @@ def ties(web):
 
 def results(web):
     """The ascending tuple of the steps that are no giver of a tie."""
-    givers = [tie[0] for tie in ties(web)]
-    return tuple([step for step in range(len(web)) if step not in givers])
+    takers = takers_of(web)
+    return tuple([step for step in range(len(web)) if not takers[step]])
 
 
 def leads(web, one, other):

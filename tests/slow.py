@@ -4,7 +4,7 @@ Nothing here uses the package, so that a fault of the package cannot hide itself
 """
 
 from functools import lru_cache
-from itertools import combinations, permutations
+from itertools import combinations, permutations, product
 
 
 def slow_ties(web):
@@ -146,3 +146,94 @@ def slow_heights(web, order):
 
 def slow_height(web, order):
     return max(slow_heights(web, order))
+
+
+def slow_queue_error(web, order):
+    """For a tuple that has each step just once."""
+    for tie in slow_ties(web):
+        if order.index(tie[0]) > order.index(tie[1]):
+            return ("late", tie)
+    at = {step: place for place, step in enumerate(order)}
+    found = sorted(
+        (tie, other) for tie in slow_ties(web) for other in slow_ties(web)
+        if at[tie[0]] < at[other[0]] and at[tie[1]] > at[other[1]]
+        and len({tie[0], tie[1], other[0], other[1]}) == 4
+    )
+    return ("nest", *found[0]) if found else None
+
+
+@lru_cache(maxsize=None)
+def slow_queue_orders(web):
+    """All queue orders, ascending, by a look at all rows of the steps."""
+    return tuple(order for order in permutations(range(len(web))) if slow_queue_error(web, order) is None)
+
+
+def slow_worth(kind, taken):
+    first = taken[0] if taken else None
+    if kind == "neg":
+        return 0 - first
+    if kind == "+":
+        return first + taken[1]
+    if kind == "-":
+        return first - taken[1]
+    if kind == "*":
+        return first * taken[1]
+    if kind == "pick":
+        return taken[1] if first >= 1 else taken[2]
+    return kind
+
+
+def slow_meaning(web, worths):
+    """The worths of the results, each one worked out anew from those that it needs."""
+    ins = [step for step, (kind, _) in enumerate(web) if kind == "in"]
+
+    def worth(step):
+        kind, inputs = web[step]
+        return worths[ins.index(step)] if kind == "in" else slow_worth(kind, [worth(giver) for giver in inputs])
+
+    givers = {giver for _, inputs in web for giver in inputs}
+    return tuple(worth(step) for step in range(len(web)) if step not in givers)
+
+
+def slow_machine(web, program, worths, queue=False):
+    """What a machine does that tells of each cell whose it is: a pair of what comes of it and what was taken.
+
+    What comes of it is ("short", index), ("left", many) or ("results", worths). What was taken is a list that has
+    for each instruction that was done the givers of the cells that it took, by the place of the inputs.
+    """
+    given = dict(zip([step for step, (kind, _) in enumerate(web) if kind == "in"], worths))
+    cells, told, found = [], [], {}
+    for index, (step, takes, copies) in enumerate(program):
+        if len(cells) < len(takes):
+            return (("short", index), told)
+        # The cells that are taken, that with the number 0 first.
+        taken = [cells.pop(0 if queue else -1) for _ in takes]
+        told.append([taken[number][0] for number in takes])
+        kind = web[step][0]
+        worth = given[step] if kind == "in" else slow_worth(kind, [taken[number][1] for number in takes])
+        for _ in range(copies):
+            cells.append((step, worth))
+        if copies == 0:
+            found[step] = worth
+    if cells:
+        return (("left", len(cells)), told)
+    return (("results", tuple(worth for _, worth in sorted(found.items()))), told)
+
+
+def slow_is_plain(web, program, queue=False):
+    """Whether a program takes for each input a cell of its giver, and puts as many there as are taken."""
+    result, told = slow_machine(web, program, [0] * len(web), queue)
+    return (
+        result[0] == "results"
+        and all(copies == sum(giver == step for giver, _, _ in slow_ties(web)) for step, _, copies in program)
+        and all(told[index] == list(web[step][1]) for index, (step, _, _) in enumerate(program))
+    )
+
+
+def slow_programs(web, orders, queue=False):
+    """For each of these rows of the steps all programs with just the right copies, whatever they take."""
+    for order in orders:
+        copies = [sum(giver == step for giver, _, _ in slow_ties(web)) for step in order]
+        choices = [list(permutations(range(len(web[step][1])))) for step in order]
+        for takes in product(*choices):
+            yield tuple(zip(order, takes, copies))

@@ -81,6 +81,15 @@ class HeightsTest(ExactTest):
         web = (IN, IN, IN, ("neg", (0,)), ("pick", (2, 2, 2)), ("neg", (1,)))
         self.told(web, 3, 5, (0, 1, 5, 3, 2, 4))
 
+    def test_what_is_begun_first_lies_under_the_rest(self):
+        # Step 5 needs three cells: it cannot come on top of the one that step 1 leaves for step 6.
+        web = (IN, ("neg", (0,)), IN, IN, IN, ("pick", (2, 3, 4)), ("+", (1, 5)))
+        self.told(web, 3, 4, (2, 3, 4, 5, 0, 1, 6))
+        self.check(heights(web, (0, 1, 2, 3, 4, 5, 6)), (1, 1, 2, 3, 4, 2, 0))
+        # The same for steps that come behind their giver: step 1 with three takers comes last.
+        web = (IN, ("neg", (0,)), ("neg", (0,)), ("neg", (1,)), ("neg", (1,)), ("neg", (1,)))
+        self.told(web, 3, 4, (0, 2, 1, 3, 4, 5))
+
     def test_equal_calls_return_equal_results(self):
         for web in (EXAMPLE, SQUARE, side_by_side(PAIR, PAIR)):
             copy = tuple(list(web))

@@ -20,6 +20,15 @@ FUNCTIONS = {
     "heights": {
         "heights": ["web", "order"], "least_height": ["web"], "greatest_height": ["web"], "lowest_order": ["web"],
     },
+    "piles": {
+        "program": ["web", "order"], "program_error": ["web", "value"], "run": ["web", "value", "worths"],
+        "is_plain": ["web", "value"],
+    },
+    "queues": {
+        "queue_error": ["web", "value"], "queue_order_of": ["web"], "queue_orders": ["web"], "queue_count": ["web"],
+        "queue_program": ["web", "order"], "run_queue": ["web", "value", "worths"],
+    },
+    "texts": {"web_text": ["web"], "read_web": ["value"]},
 }
 CLASSES = {
     "errors": {
@@ -27,6 +36,12 @@ CLASSES = {
         "NoOrder": [], "Barred": ["bar"], "Full": [], "Used": ["value"], "NothingToUndo": [],
         "NothingToRedo": [], "BadText": ["line"], "NoStep": ["value"],
     },
+}
+LOOM = {
+    "__init__": ["web"], "web": [], "version": [], "first_order": [], "first_bar": [], "how_many": [],
+    "add": ["value"], "drop": ["value"], "turn": ["step", "value"], "tie": ["step", "place", "value"], "undo": [],
+    "redo": [], "run": ["worths"], "twin": [], "__len__": [], "__getitem__": ["step"], "__contains__": ["value"],
+    "__eq__": ["other"], "__iter__": [],
 }
 NAMES = {"bounds": ["MAX_STEPS", "MAX_COPIES", "MAX_EDITS"]}
 
@@ -56,6 +71,22 @@ class InterfaceTest(unittest.TestCase):
                     self.assertIn(word, found)
                     made = [item for item in found[word].body if isinstance(item, ast.FunctionDef)]
                     self.assertEqual([arguments(item) for item in made], [["self", *names]] if names else [])
+
+    def test_looms(self):
+        found = {item.name: item for item in body_of("looms") if isinstance(item, ast.ClassDef)}
+        made = {item.name: arguments(item) for item in found["Loom"].body if isinstance(item, ast.FunctionDef)}
+        for word, names in LOOM.items():
+            with self.subTest(word):
+                self.assertEqual(made.get(word), ["self", *names])
+        made = {item.name: arguments(item) for item in found["PileLoom"].body if isinstance(item, ast.FunctionDef)}
+        self.assertEqual(made["__init__"], ["self", "web"])
+        self.assertEqual([base.id for base in found["PileLoom"].bases], ["Loom"])
+        self.assertEqual(found["Loom"].bases, [])
+
+    def test_generators(self):
+        for name, word in (("orders", "orders"), ("queues", "queue_orders")):
+            function = [item for item in body_of(name) if getattr(item, "name", None) == word][0]
+            self.assertTrue(any(isinstance(node, (ast.Yield, ast.YieldFrom)) for node in ast.walk(function)))
 
     def test_names(self):
         for name, words in NAMES.items():

@@ -18,7 +18,7 @@ LIBRARY = {
 }
 BUILTINS = set("""
     len range enumerate zip min max sum abs sorted reversed int str bool list tuple dict set isinstance ord repr
-    any all divmod map iter next ValueError TypeError KeyError IndexError LookupError ZeroDivisionError
+    any all divmod map iter next type ValueError TypeError KeyError IndexError LookupError ZeroDivisionError
     NotImplemented StopIteration property staticmethod classmethod super
 """.split())
 METHODS = set("""
@@ -29,8 +29,10 @@ METHODS = set("""
 """.split())
 NAMES_NOT_USED = set("""
     mro elements open input law version_info with_traceback add_note register attrgetter breakpoint builtins compile
-    delattr dir eval exec exit gc globals help importlib locals methodcaller os vars type typing enum sys
+    delattr dir eval exec exit gc globals help importlib locals methodcaller os vars typing enum sys
 """.split())
+# The double-underscore methods of the package's only class with operators, and what its errors and others have.
+DOUBLE = {"__init__", "__len__", "__getitem__", "__contains__", "__iter__", "__eq__"}
 STATEMENTS_OF_A_MODULE = (ast.Expr, ast.ImportFrom, ast.FunctionDef, ast.ClassDef, ast.Assign)
 NOT_ALLOWED = (
     ast.AsyncFunctionDef, ast.AsyncFor, ast.AsyncWith, ast.Await, ast.Import, ast.Global, ast.Div, ast.MatMult,
@@ -127,7 +129,68 @@ class LanguageTest(unittest.TestCase):
         for place, node in nodes(ast.Compare):
             for sign, side in zip(node.ops, node.comparators):
                 if isinstance(sign, (ast.Is, ast.IsNot)):
-                    self.assertIsInstance(side, ast.Constant, place)
+                    self.assertTrue(isinstance(side, ast.Constant) or is_kind(node.left) and is_kind(side), place)
+
+    def test_type_stands_beside_is_only(self):
+        beside = [side for _, node in nodes(ast.Compare) if isinstance(node.ops[0], ast.Is)
+                  for side in (node.left, *node.comparators)]
+        names = [side.func for side in beside if is_kind(side)]
+        for place, node in nodes(ast.Name):
+            self.assertTrue(node.id != "type" or node in names, place)
+
+    def test_modules_do_not_import_each_other(self):
+        imports = {
+            name: [f"{node.module[9:]}.py" for node in tree.body
+                   if isinstance(node, ast.ImportFrom) and node.module.startswith("pilepass.")]
+            for name, tree in TREES.items()
+        }
+        done = []
+        while len(done) < len(imports):
+            ready = [name for name in imports if name not in done and set(imports[name]) <= set(done)]
+            self.assertTrue(ready, sorted(set(imports) - set(done)))
+            done += ready
+
+    def test_no_local_name_is_that_of_an_import_or_a_class_of_its_file(self):
+        for name, tree in TREES.items():
+            bound = {item.name for node in tree.body if isinstance(node, ast.ImportFrom) for item in node.names}
+            bound |= {node.name for node in tree.body if isinstance(node, ast.ClassDef)}
+            for node in ast.walk(tree):
+                local = node.id if isinstance(node, ast.Name) and not isinstance(node.ctx, ast.Load) else None
+                local = node.arg if isinstance(node, ast.arg) else local
+                self.assertNotIn(local, bound, f"{name}:{getattr(node, 'lineno', 0)}")
+
+    def test_a_property_without_a_setter_has_a_name_that_is_assigned_nowhere(self):
+        properties = {
+            function.name for _, function in nodes(ast.FunctionDef)
+            if any(getattr(item, "id", None) == "property" for item in function.decorator_list)
+        }
+        self.assertEqual(properties, {"web", "version"})
+        for place, node in nodes(ast.Attribute):
+            self.assertFalse(node.attr in properties and isinstance(node.ctx, ast.Store), place)
+
+    def test_names_with_underscores(self):
+        for place, node in nodes(ast.FunctionDef):
+            self.assertTrue(not node.name.startswith("__") or node.name in DOUBLE, place)
+        for place, node in nodes(ast.Name):
+            self.assertTrue(node.id != "_" or isinstance(node.ctx, ast.Store), place)
+
+    def test_no_products_beside_a_class_that_is_iterated_over(self):
+        for place, node in nodes(ast.ImportFrom):
+            self.assertNotEqual(node.module, "itertools", place)
+
+    def test_sets_and_sorting(self):
+        for place, node in nodes(ast.Set, ast.SetComp):
+            self.fail(f"{place}: a list or a mask says the same")
+        for place, node in nodes(ast.Call):
+            word = getattr(node.func, "attr", None) or getattr(node.func, "id", None)
+            self.assertNotIn(word, ("set", "frozenset", "sort"), place)
+            if word == "reversed":
+                self.assertEqual(node.args[0].func.id, "list", place)
+
+
+def is_kind(node):
+    """Whether this is type(x)."""
+    return isinstance(node, ast.Call) and getattr(node.func, "id", None) == "type" and len(node.args) == 1
 
 
 if __name__ == "__main__":

@@ -9,7 +9,6 @@ from pilepass.blocks import blocks, parts, row_of, shared_steps
 from pilepass.heights import greatest_height, heights, least_height, lowest_order
 from pilepass.orders import can_begin, order_count, order_error, order_of, orders
 from pilepass.webs import web_error
-from tests.formula import formula_count
 from tests.samples import (
     AROUND, CROSSED, CROSSED_AROUND, SQUARE, THREE_AROUND, TIED_MIDDLES, UNCLOSED, ExactTest, any_web, numbered,
     plain_webs, side_by_side, small_webs,
@@ -18,6 +17,7 @@ from tests.slow import (
     slow_bars, slow_blocks, slow_height, slow_heights, slow_order_error, slow_orders, slow_parts, slow_row_of,
     slow_shared_steps,
 )
+from tests.states import count_by_states, heights_by_states
 
 RANDOM = random.Random(5)
 TINY = [web for many in (1, 2, 3) for web in small_webs(many) if web_error(web) is None]
@@ -120,11 +120,15 @@ class SmallWebsTest(ExactTest):
             self.assertNotEqual(order_of(web) is None, bar(web) is None)
             self.assertNotEqual(len(slow_orders(web)) == 0, len(slow_bars(web)) == 0)
 
-    def test_formula(self):
-        """The formula of the tests, by which webs of ten steps are counted, is right itself."""
-        for web in ALL:
-            if not slow_bars(web):
-                self.check(formula_count(web), len(slow_orders(web)))
+    def test_told_by_states(self):
+        """What webs of ten steps are compared with is right itself."""
+        for web in ALL[::3]:
+            found = slow_orders(web)
+            told = [slow_height(web, order) for order in found[:1000]]
+            self.check(count_by_states(web), len(found))
+            if len(found) <= 1000:
+                least = (min(told), max(told), found[told.index(min(told))]) if told else None
+                self.check(heights_by_states(web), least)
 
     def test_heights(self):
         for web in ALL:

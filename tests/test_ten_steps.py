@@ -1,7 +1,6 @@
-"""[1], [2] and [5] to [7] on webs of many steps, where nobody can look at all rows of the steps."""
+"""[1], [2] and [5] to [9] on webs of many steps, where nobody can look at all rows of the steps."""
 
 import random
-import time
 import unittest
 from itertools import islice
 
@@ -9,12 +8,16 @@ from pilepass.bars import bar, bar_holds
 from pilepass.blocks import blocks, parts, row_of, shared_steps
 from pilepass.heights import greatest_height, heights, least_height, lowest_order
 from pilepass.orders import can_begin, order_count, order_error, order_of, orders
-from pilepass.webs import web_error
-from tests.formula import formula_count
-from tests.samples import (
-    AROUND, CROSSED, SQUARE, THREE_AROUND, UNCLOSED, ExactTest, any_web, numbered, row, side_by_side,
+from pilepass.piles import is_plain, program, run
+from pilepass.queues import (
+    queue_count, queue_error, queue_order_of, queue_orders, queue_program, run_queue,
 )
-from tests.slow import slow_height, slow_order_error, slow_orders
+from pilepass.webs import web_error
+from tests.samples import (
+    AROUND, CROSSED, EXAMPLE, SQUARE, THREE_AROUND, UNCLOSED, ExactTest, any_web, numbered, row, side_by_side,
+)
+from tests.slow import slow_height, slow_meaning, slow_order_error, slow_orders, slow_queue_error
+from tests.states import count_by_states, heights_by_states
 
 RANDOM = random.Random(10)
 IN = ("in", ())
@@ -40,6 +43,12 @@ HARD = [
     side_by_side((IN,) * 5, AROUND),
     side_by_side(THREE_AROUND, (IN,) * 3),
     side_by_side(UNCLOSED, CROSSED, PAIR),
+    side_by_side(EXAMPLE, EXAMPLE, PAIR),
+    side_by_side(*[(IN, ("neg", (0,)), ("neg", (0,)))] * 3, (IN,)),
+    side_by_side(*[(IN, IN, ("+", (0, 1)))] * 3, (IN,)),
+    side_by_side(*[(IN, ("neg", (0,)), ("+", (0, 1)))] * 2, PAIR, PAIR),
+    # The longest to count the queue orders of, and to find that there is none, of some thousands of drawn webs.
+    side_by_side((IN, ("-", (0, 0)), ("neg", (1,))), PAIR, PAIR, PAIR[:1], PAIR),
 ]
 MANY = [numbered(web, RANDOM.sample(range(10), 10)) for web in HARD for _ in range(3)]
 ANY = [any_web(RANDOM, many) for many in (8, 9, 10, 10) for _ in range(75)]
@@ -69,9 +78,12 @@ class TenStepsTest(ExactTest):
             else:
                 self.check(bar_holds(web, found), True)
 
-    def test_count_by_the_formula(self):
-        for web in ALL:
-            self.check(order_count(web), formula_count(web) if bar(web) is None else 0)
+    def test_what_is_told_by_states(self):
+        for web in HARD + MANY[::3] + ANY[::3]:
+            self.check(order_count(web), count_by_states(web))
+            self.check(queue_count(web), count_by_states(web, True))
+            told = heights_by_states(web) or (None, None, None)
+            self.check((least_height(web), greatest_height(web), lowest_order(web)), told)
 
     def test_all_orders_where_they_are_not_too_many(self):
         for web in ALL:
@@ -89,6 +101,30 @@ class TenStepsTest(ExactTest):
             self.assertTrue(all(one < other for one, other in zip(found, found[1:])))
             for order in found[::23]:
                 self.check(slow_order_error(web, order), None)
+
+    def test_queue_orders(self):
+        for web in ALL:
+            many, first = queue_count(web), queue_order_of(web)
+            self.check(first is None, many == 0)
+            found = list(islice(queue_orders(web), 3001 if many <= 3000 else 300))
+            self.check(len(found), many if many <= 3000 else 300)
+            self.check(first, found[0] if found else None)
+            self.assertTrue(all(one < other for one, other in zip(found, found[1:])))
+            for order in found[::53]:
+                self.check(slow_queue_error(web, order), None)
+                self.check(queue_error(web, order), None)
+
+    def test_programs_run_to_the_results_of_meaning(self):
+        for web in ALL:
+            worths = tuple(RANDOM.randint(-10 ** 40 + 1, 10 ** 40 - 1) for kind, _ in web if kind == "in")
+            told = slow_meaning(web, worths)
+            for order in islice(orders(web), 2):
+                self.check(is_plain(web, program(web, order)), True)
+                self.check(run(web, program(web, order), worths), told)
+                if order[::-1] != order:
+                    self.check(is_plain(web, program(web, order)[::-1]), order_error(web, order[::-1]) is None)
+            for order in islice(queue_orders(web), 2):
+                self.check(run_queue(web, queue_program(web, order), worths), told)
 
     def test_what_a_right_order_begins_with(self):
         for web in ALL:
@@ -127,32 +163,6 @@ class TenStepsTest(ExactTest):
                 self.check(order_count(web), counts[0] * counts[1] * len(web))
             self.check(least_height(web), max(least_height(one), least_height(other)))
             self.check(greatest_height(web), greatest_height(one) + greatest_height(other))
-
-
-class QuickTest(unittest.TestCase):
-
-    def quick(self, call):
-        start = time.process_time()
-        call()
-        self.assertLess(time.process_time() - start, 1)
-
-    def test_no_call_takes_long(self):
-        calls = (parts, blocks, shared_steps, order_of, order_count, bar, least_height, greatest_height, lowest_order)
-        for web in ALL:
-            for call in calls:
-                self.quick(lambda: call(web))
-            self.quick(lambda: can_begin(web, ()))
-            self.quick(lambda: can_begin(web, (0,)))
-            self.quick(lambda: order_error(web, tuple(range(len(web)))))
-            self.quick(lambda: bar_holds(web, ("open", tuple(range(len(web))))))
-            self.quick(lambda: [row_of(web, block) for block in blocks(web)])
-            self.quick(lambda: next(orders(web), None))
-
-    def test_orders_that_follow_come_at_once(self):
-        for web in HARD:
-            found = orders(web)
-            for _ in range(50):
-                self.quick(lambda: next(found, None))
 
 
 if __name__ == "__main__":
